@@ -1,0 +1,1 @@
+"""Turingwright: small machines, what they do, and papers that they end or never do."""
