@@ -3,7 +3,7 @@
 import inspect
 import unittest
 
-from turingwright import errors, machines, papers, tapes
+from turingwright import beavers, errors, machines, papers, recs, registers, tapes, whiles
 
 FUNCTIONS = {
     tapes: ("trimmed(row)", "first_of(row)", "of_word(word, place=0)", "told_tape(tape)", "read_tape(text)",
@@ -15,6 +15,20 @@ FUNCTIONS = {
              "back_depth(machine, history, first, second)", "same_behind(one, other, side, depth)",
              "check_moved(machine, paper)", "grams_paper(machine, size, most=4000)", "grow_from(machine, here, lots)",
              "check_grams(machine, paper)", "decide(machine, most, size)", "check_decided(machine, told)"),
+    beavers: ("check_size(states, signs)", "rows_for(machine, states, signs)",
+              "all_machines(states, signs, most, size)", "is_full(machine)",
+              "with_rows(machine, states, signs, most)", "busiest(states, signs, most, size)", "check_class(rows)",
+              "champions(rows, most)", "kinds_told(rows)"),
+    registers: ("count_of(counts, slot)", "trimmed_counts(counts)", "with_count(counts, slot, number)",
+                "in_turn(programs)", "moved(program, by)", "clear(slot)", "pour(slot, others)",
+                "copy(slot, other, room)", "while_not(slot, program)", "times_over(slot, program)",
+                "told_program(program)", "read_program(text)"),
+    whiles: ("check_steps(rows)", "carried(rows, counts, most)", "names_of(rows)", "depth(rows)", "has_while(rows)",
+             "by_registers(rows)", "told_step(row, room)", "adding(one, other)", "multiplying(one, other, found)",
+             "less(one, other)", "bound(rows, most)"),
+    recs: ("check_function(term)", "check_put(term)", "worth(term, row, most=5000)", "is_plain(term)",
+           "constant(number, count)", "by_steps(term, names, found, room)", "steps_of(term)", "parts_in(term)",
+           "adder()", "multiplier()", "before()"),
 }
 METHODS = {
     tapes.Tape: ("__init__(self, left=(), here=0, right=())", "write(self, sign)", "move(self, way)",
@@ -22,6 +36,10 @@ METHODS = {
     machines.Machine: ("__init__(self, states, signs, table)", "step(self, state, tape)",
                        "run(self, tape, most, state=0)", "history(self, tape, count, state=0)", "halts_at(self)",
                        "shown(self)"),
+    registers.Program: ("__init__(self, rows)", "step(self, place, counts)", "run(self, counts, most)",
+                        "history(self, counts, count)", "width(self)", "shown(self)"),
+    whiles.Carrier: ("__init__(self, counts, most)", "carry(self, rows)", "put(self, name, number)", "spend(self)"),
+    recs.Worker: ("__init__(self, most)", "worth(self, term, row)"),
 }
 
 
@@ -42,6 +60,9 @@ class Interface(unittest.TestCase):
     def test_classes_stand_in_their_files(self):
         self.assertEqual(tapes.Tape.__module__, "turingwright.tapes")
         self.assertEqual(machines.Machine.__module__, "turingwright.machines")
+        self.assertEqual(registers.Program.__module__, "turingwright.registers")
+        self.assertEqual(whiles.Carrier.__module__, "turingwright.whiles")
+        self.assertEqual(recs.Worker.__module__, "turingwright.recs")
         self.assertEqual(errors.MachineFault.__module__, "turingwright.errors")
 
 
