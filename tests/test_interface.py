@@ -3,7 +3,8 @@
 import inspect
 import unittest
 
-from turingwright import beavers, errors, machines, papers, recs, registers, tapes, whiles
+from turingwright import (beavers, cells, codes, errors, machines, papers, recs, registers, rules, tags, tapes,
+                          whiles)
 
 FUNCTIONS = {
     tapes: ("trimmed(row)", "first_of(row)", "of_word(word, place=0)", "told_tape(tape)", "read_tape(text)",
@@ -29,6 +30,19 @@ FUNCTIONS = {
     recs: ("check_function(term)", "check_put(term)", "worth(term, row, most=5000)", "is_plain(term)",
            "constant(number, count)", "by_steps(term, names, found, room)", "steps_of(term)", "parts_in(term)",
            "adder()", "multiplier()", "before()"),
+    codes: ("pair(one, other)", "parted(number)", "row_code(row)", "row_of(number)", "step_code(row)",
+            "step_of(number)", "program_code(program)", "program_of(number)", "run_code(number, counts, most)",
+            "picked(number, place)", "with_number(number, place, new)", "bits_code(word)", "bits_of(number)",
+            "least_code(counts, found, limit, most)"),
+    tags: ("coded(signs, word)", "uncoded(signs, word)", "as_rounds(tag, signs)", "lengths(tag, word, count)"),
+    rules: ("check_rules(rules)", "all_after(rules, word)", "first_after(rules, word)", "by_first(rules, word, most)",
+            "reached(rules, word, most, longest)", "way_between(rules, one, other, most, longest)",
+            "check_way(rules, word, steps)", "turned_rules(rules)", "kept_count(rules, signs)", "shortens(rules)",
+            "of_machine(machine)", "letter(state)", "word_of(state, tape)", "same_word(one, other)",
+            "bare_word(word)"),
+    cells: ("check_row(row)", "is_onto(cells)", "orphan(cells, longest)", "is_one_to_one(cells)",
+            "both(cells, node, alive, ahead)", "ring_kinds(cells, size)", "all_rings(size)", "adds_up(cells)",
+            "bit(cells, three)", "keeps_ones(cells)"),
 }
 METHODS = {
     tapes.Tape: ("__init__(self, left=(), here=0, right=())", "write(self, sign)", "move(self, way)",
@@ -40,6 +54,13 @@ METHODS = {
                         "history(self, counts, count)", "width(self)", "shown(self)"),
     whiles.Carrier: ("__init__(self, counts, most)", "carry(self, rows)", "put(self, name, number)", "spend(self)"),
     recs.Worker: ("__init__(self, most)", "worth(self, term, row)"),
+    tags.Tag: ("__init__(self, count, table)", "step(self, word)", "run(self, word, most)", "ring(self, word, most)",
+               "shown(self)"),
+    tags.Rounds: ("__init__(self, words)", "step(self, place, word)", "run(self, word, most)",
+                  "history(self, word, count)", "shown(self)"),
+    cells.Cells: ("__init__(self, number)", "of(self, left, here, right)", "step(self, row)",
+                  "history(self, row, count)", "ring(self, row)", "ahead(self, row)", "went_on(self, ways, sign)",
+                  "turned(self)", "swapped(self)", "shown(self)"),
 }
 
 
@@ -63,6 +84,9 @@ class Interface(unittest.TestCase):
         self.assertEqual(registers.Program.__module__, "turingwright.registers")
         self.assertEqual(whiles.Carrier.__module__, "turingwright.whiles")
         self.assertEqual(recs.Worker.__module__, "turingwright.recs")
+        self.assertEqual(tags.Tag.__module__, "turingwright.tags")
+        self.assertEqual(tags.Rounds.__module__, "turingwright.tags")
+        self.assertEqual(cells.Cells.__module__, "turingwright.cells")
         self.assertEqual(errors.MachineFault.__module__, "turingwright.errors")
 
 
