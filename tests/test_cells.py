@@ -197,6 +197,7 @@ class RowsWithoutEnd(unittest.TestCase):
         self.assertIs(both(cells, ((0, 0), (1, 1)), {((0, 1), (1, 0)): True}, False), False)
         self.assertIs(both(cells, ((0, 0), (1, 1)), {((1, 0), (0, 1)): True}, False), True)
         self.assertIs(both(cells, ((0, 0), (1, 1)), {((0, 0), (0, 1)): True}, True), False)
+        self.assertIs(both(cells, ((0, 0), (1, 1)), {((0, 1), (1, 0)): False}, True), False)
 
     def test_both_leaves_those_alive_as_they_were(self):
         alive = {((0, 1), (1, 0)): True}

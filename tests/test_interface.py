@@ -3,8 +3,8 @@
 import inspect
 import unittest
 
-from turingwright import (beavers, cells, codes, errors, machines, papers, recs, registers, rules, tags, tapes,
-                          whiles)
+from turingwright import (beavers, cells, codes, desks, errors, machines, papers, posts, recs, registers, rules, tags,
+                          tapes, tells, terms, whiles)
 
 FUNCTIONS = {
     tapes: ("trimmed(row)", "first_of(row)", "of_word(word, place=0)", "told_tape(tape)", "read_tape(text)",
@@ -43,6 +43,23 @@ FUNCTIONS = {
     cells: ("check_row(row)", "is_onto(cells)", "orphan(cells, longest)", "is_one_to_one(cells)",
             "both(cells, node, alive, ahead)", "ring_kinds(cells, size)", "all_rings(size)", "adds_up(cells)",
             "bit(cells, three)", "keeps_ones(cells)"),
+    terms: ("check_term(term)", "put(one, other)", "put_all(one, others)", "spine(term)", "size_of(term)",
+            "letters_of(term)", "step(term)", "done(head, rest)", "all_steps(term)", "ended(term, most, largest=400)",
+            "told_term(term)", "read_term(text)", "read_terms(text, place)", "without(letter, term)",
+            "function(letters, term)", "exchanged(term, table)", "numeral(count)", "number_of(term, most=3000)",
+            "next_number()", "sum_term()", "product_term()", "meets(term, most)"),
+    posts: ("check_pairs(pairs)", "check_laid(pairs, row)", "over(state, pair)", "plain(state)",
+            "shortest(pairs, most, longest)", "none_paper(pairs, most)", "check_none(pairs, paper)",
+            "by_counts(pairs)", "times_in(word, sign)", "all_rows(pairs, count)", "turned_pairs(pairs)",
+            "is_least(pairs, row)", "reads(pairs, row)"),
+    tells: ("bits_for(signs)", "sign_bits(sign, size)", "told_by_two(tape, size)", "told_back(tape, size)",
+            "of_bits(row)", "by_two(machine)", "counts_word(counts)", "word_counts(word)", "by_tape(program, width)",
+            "make_row(maker, place, row, nexts, width)", "shift_in(maker, start, behind, after, ahead)",
+            "shift_out(maker, start, behind, after, ahead)", "pick_up(maker, state, left, pull, home)",
+            "go_home(maker, twos, after)", "run_by_tape(program, counts, width, most)",
+            "number_of_side(row, signs)", "side_of_number(number, signs)", "counted_step(machine, state, counts)",
+            "counted_run(machine, tape, most)"),
+    desks: ("number(word)", "figure_of(text)", "told_place(state, tape)", "lines_of(text)", "done_again(text)"),
 }
 METHODS = {
     tapes.Tape: ("__init__(self, left=(), here=0, right=())", "write(self, sign)", "move(self, way)",
@@ -61,6 +78,11 @@ METHODS = {
     cells.Cells: ("__init__(self, number)", "of(self, left, here, right)", "step(self, row)",
                   "history(self, row, count)", "ring(self, row)", "ahead(self, row)", "went_on(self, ways, sign)",
                   "turned(self)", "swapped(self)", "shown(self)"),
+    tells.Maker: ("__init__(self, count)", "fresh(self)", "read_from(self, machine, state, here, seen, size)",
+                  "go_back(self, here, bit, size)", "write_back(self, row, here, bit, size)",
+                  "going(self, move, after, size)"),
+    desks.Desk: ("__init__(self)", "say(self, line)", "do(self, line)", "mine(self)",
+                 "let(self, machine, state, tape, words)", "answer(self, words)"),
 }
 
 
@@ -87,6 +109,8 @@ class Interface(unittest.TestCase):
         self.assertEqual(tags.Tag.__module__, "turingwright.tags")
         self.assertEqual(tags.Rounds.__module__, "turingwright.tags")
         self.assertEqual(cells.Cells.__module__, "turingwright.cells")
+        self.assertEqual(tells.Maker.__module__, "turingwright.tells")
+        self.assertEqual(desks.Desk.__module__, "turingwright.desks")
         self.assertEqual(errors.MachineFault.__module__, "turingwright.errors")
 
 

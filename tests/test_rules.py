@@ -100,8 +100,10 @@ class Reached(unittest.TestCase):
         self.assertEqual(len(reached([("a", "aa")], "a", 4, 4)), 4)
         with self.assertRaises(BadSize):
             reached([("a", "aa")], "a", 3, 4)
-        with self.assertRaises(BadSize):
-            reached([("a", "aa")], "a", 0, 4)
+        self.assertEqual(reached(SORT, "ab", 1, 9), {"ab": None})
+        for word in ("a", "b"):
+            with self.assertRaises(BadSize):
+                reached([("a", "aa")], word, 0, 4)
         with self.assertRaises(BadSize):
             way_between([("a", "aa")], "a", "aa", 3, 4)
 
@@ -240,7 +242,7 @@ class Words(unittest.TestCase):
 
     def test_refused(self):
         for word in ("", "[", "]", "[]", "A0", "[A0", "A0]", "[A]", "[1A]", "[10]", "[AB0]", "[A0B0]", "[0]", "(A0)",
-                     "[a0]", "[x0A0]", "[A x]", "[[A0]", "[A0]]"):
+                     "[a0]", "[x0A0]", "[A x]", "[Ax]", "[A0x]", "[[A0]", "[A0]]"):
             with self.subTest(word=word):
                 with self.assertRaises(BadTape):
                     bare_word(word)

@@ -142,7 +142,7 @@ def both(cells, node, alive, ahead):
         for other_sign in (0, 1):
             made, pair = beside(cells, one, sign, ahead)
             other_made, other_pair = beside(cells, other, other_sign, ahead)
-            if made == other_made and (pair, other_pair) in alive:
+            if made == other_made and alive.get((pair, other_pair), False):
                 return True
     return False
 

@@ -140,7 +140,8 @@ def bits_of(number):
     """Return the word of a number."""
     if number < 0:
         raise BadSize("a word's number is not below nought")
-    return f"{number + 1:b}"[1:]
+    figures = f"{number + 1:b}"
+    return figures[1:]
 
 
 def least_code(counts, found, limit, most):
